@@ -1,0 +1,1 @@
+"""Grammarpack: grammars with choices in order, read with remembering."""
